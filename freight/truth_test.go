@@ -7,7 +7,8 @@ import (
 	"freight/freight"
 )
 
-// The tests here try all flows, cuts, circles and potentials of many small nets.
+// The tests here try all cuts and circles of many small nets, and all flows and
+// potentials up to tallest and steepest, which is enough for nets so small.
 // For each net just one kind of answer is accepted, and it is the true one.
 
 const (
