@@ -4,6 +4,7 @@ package freight
 import (
 	"freight/api"
 	"freight/grounds"
+	"freight/route"
 )
 
 // Check tells whether a network may be, and where it may not (P3).
@@ -16,7 +17,7 @@ func Cost(n api.Net, flow []int) (int, api.Errno) { return grounds.Cost(n, flow)
 func Accept(n api.Net, a api.Answer) (bool, api.Errno) { return grounds.Accept(n, a) }
 
 // Some gives a flow, or a cut that shows that there is none (P9).
-func Some(n api.Net) ([]int, []int, api.Errno) { return nil, nil, api.OK }
+func Some(n api.Net) ([]int, []int, api.Errno) { return route.Some(n) }
 
 // Solve gives an answer (P10).
 func Solve(n api.Net) (api.Answer, api.Errno) { return api.Answer{}, api.OK }

@@ -32,6 +32,10 @@ func TestP1NothingPanics(t *testing.T) {
 
 func callAll(t *testing.T, n api.Net, x, y int) {
 	errno, _ := freight.Check(n)
+	flow, cut, someErrno := freight.Some(n)
+	if someErrno != errno || (errno != api.OK && (len(flow) != 0 || len(cut) != 0)) {
+		t.Errorf("P1: Some(%+v) = %v, %v, %d, and Check's error is %d", n, flow, cut, someErrno, errno)
+	}
 	for _, l := range [][]int{nil, list(x), list(x, y), list(x, y, x), list(0, x, y), make([]int, 50)} {
 		cost, costErrno := freight.Cost(n, l)
 		if costErrno != api.OK && cost != 0 {

@@ -31,10 +31,11 @@ func arcMayBe(arc api.Arc, nodes int) bool {
 	if arc.Low < 0 || arc.Low > api.MaxCap {
 		return false
 	}
-	if !unlimited(arc) && (arc.Cap < arc.Low || arc.Cap > api.MaxCap) {
+	if !Unlimited(arc) && (arc.Cap < arc.Low || arc.Cap > api.MaxCap) {
 		return false
 	}
 	return arc.Cost >= -api.MaxCost && arc.Cost <= api.MaxCost
 }
 
-func unlimited(arc api.Arc) bool { return arc.Cap == api.NoLimit }
+// Unlimited tells whether the arc takes any amount.
+func Unlimited(arc api.Arc) bool { return arc.Cap == api.NoLimit }

@@ -34,7 +34,7 @@ func good(n api.Net, circle []int) bool {
 	sum := 0
 	for _, number := range circle {
 		arc := n.Arcs[number]
-		if !unlimited(arc) {
+		if !Unlimited(arc) {
 			return false
 		}
 		sum += arc.Cost

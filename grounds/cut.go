@@ -62,7 +62,7 @@ func crossingOf(n api.Net, inside []bool, outward bool) crossing {
 
 func widened(sum crossing, arc api.Arc) crossing {
 	sum.lows += arc.Low
-	if unlimited(arc) {
+	if Unlimited(arc) {
 		sum.unlimited = true
 		return sum
 	}

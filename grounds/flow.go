@@ -27,7 +27,7 @@ func flowError(n api.Net, flow []int) api.Errno {
 		}
 	}
 	for node, supply := range n.Supply {
-		if surplus(n, flow, node) != supply {
+		if Surplus(n, flow, node) != supply {
 			return api.ErrBalance
 		}
 	}
@@ -38,12 +38,13 @@ func withinBounds(arc api.Arc, amount int) bool {
 	if amount < arc.Low || amount > api.MaxAmount {
 		return false
 	}
-	return unlimited(arc) || amount <= arc.Cap
+	return Unlimited(arc) || amount <= arc.Cap
 }
 
-// surplus is what goes from the node less what goes to it. Both tests are made
-// of each arc, since an arc from a node to itself counts on both sides.
-func surplus(n api.Net, flow []int, node int) int {
+// Surplus is what goes from the node less what goes to it, of a flow with a
+// number for each arc. Both tests are made of each arc, since an arc from a
+// node to itself counts on both sides.
+func Surplus(n api.Net, flow []int, node int) int {
 	sum := 0
 	for number, arc := range n.Arcs {
 		if arc.From == node {

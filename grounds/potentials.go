@@ -30,7 +30,7 @@ func held(arc api.Arc, drift int, amount int) bool {
 		return amount == arc.Low
 	}
 	if drift < 0 {
-		return !unlimited(arc) && amount == arc.Cap
+		return !Unlimited(arc) && amount == arc.Cap
 	}
 	return true
 }
