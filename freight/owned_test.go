@@ -36,6 +36,10 @@ func callAll(t *testing.T, n api.Net, x, y int) {
 	if someErrno != errno || (errno != api.OK && (len(flow) != 0 || len(cut) != 0)) {
 		t.Errorf("P1: Some(%+v) = %v, %v, %d, and Check's error is %d", n, flow, cut, someErrno, errno)
 	}
+	answer, solveErrno := freight.Solve(n)
+	if solveErrno != errno || (errno != api.OK && !reflect.DeepEqual(answer, api.Answer{})) {
+		t.Errorf("P1: Solve(%+v) = %+v, %d, and Check's error is %d", n, answer, solveErrno, errno)
+	}
 	for _, l := range [][]int{nil, list(x), list(x, y), list(x, y, x), list(0, x, y), make([]int, 50)} {
 		cost, costErrno := freight.Cost(n, l)
 		if costErrno != api.OK && cost != 0 {

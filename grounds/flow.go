@@ -27,7 +27,7 @@ func flowError(n api.Net, flow []int) api.Errno {
 		}
 	}
 	for node, supply := range n.Supply {
-		if Surplus(n, flow, node) != supply {
+		if surplus(n, flow, node) != supply {
 			return api.ErrBalance
 		}
 	}
@@ -41,10 +41,10 @@ func withinBounds(arc api.Arc, amount int) bool {
 	return Unlimited(arc) || amount <= arc.Cap
 }
 
-// Surplus is what goes from the node less what goes to it, of a flow with a
+// surplus is what goes from the node less what goes to it, of a flow with a
 // number for each arc. Both tests are made of each arc, since an arc from a
 // node to itself counts on both sides.
-func Surplus(n api.Net, flow []int, node int) int {
+func surplus(n api.Net, flow []int, node int) int {
 	sum := 0
 	for number, arc := range n.Arcs {
 		if arc.From == node {

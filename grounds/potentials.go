@@ -17,12 +17,17 @@ func arePotentials(nodes int, potentials []int) bool {
 // hold takes potentials that may be, and a flow that fits.
 func hold(n api.Net, potentials []int, flow []int) bool {
 	for number, arc := range n.Arcs {
-		drift := arc.Cost + potentials[arc.From] - potentials[arc.To]
+		drift := Drift(arc, potentials)
 		if !held(arc, drift, flow[number]) {
 			return false
 		}
 	}
 	return true
+}
+
+// Drift takes an arc that may be, and a potential for each node.
+func Drift(arc api.Arc, potentials []int) int {
+	return arc.Cost + potentials[arc.From] - potentials[arc.To]
 }
 
 func held(arc api.Arc, drift int, amount int) bool {

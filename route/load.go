@@ -20,32 +20,46 @@ type step struct {
 }
 
 func atLows(n api.Net) *load {
-	flow := make([]int, len(n.Arcs))
-	for number, arc := range n.Arcs {
-		flow[number] = arc.Low
-	}
-	left := make([]int, len(n.Supply))
+	l := &load{net: n, flow: make([]int, len(n.Arcs)), left: make([]int, len(n.Supply))}
 	for node, supply := range n.Supply {
-		sent := grounds.Surplus(n, flow, node)
-		left[node] = supply - sent
+		l.left[node] = supply
 	}
-	return &load{net: n, flow: flow, left: left}
+	for number, arc := range n.Arcs {
+		l.take(step{arc: number, back: false}, arc.Low)
+	}
+	return l
+}
+
+// fill sends as much as may be along each arc with a drift below 0, of which
+// none may be unlimited. Where all arcs were at their Low, the potentials hold
+// the flow then: so no circle of steps with room costs less than 0.
+func (l *load) fill(potentials []int) {
+	for number, arc := range l.net.Arcs {
+		drift := grounds.Drift(arc, potentials)
+		if drift < 0 {
+			s := step{arc: number, back: false}
+			room := l.room(s)
+			l.take(s, room)
+		}
+	}
 }
 
 // settle sends what is left, and answers no cut; or it comes to where no more
 // can go, and answers the nodes that can still be reached from one with goods
 // left. All arcs out of these are full then, and all arcs into them at their
 // Low, and still there is something left in them: so that cut is violated.
-// It takes a net whose supplies add up to 0.
+// It takes a net whose supplies add up to 0, and a load in which no circle of
+// steps costs less than 0; since it goes the cheapest ways, none ever does.
 func (l *load) settle() []int {
 	toGo := l.unsent()
 	for toGo > 0 {
-		r := l.reached()
-		end, found := l.wanting(r)
+		ready := l.ready()
+		w := l.cheapest(ready)
+		end, found := l.wanting(w)
 		if !found {
-			return r.nodes()
+			return w.nodes()
 		}
-		sent := l.send(r, end)
+		sent := l.send(w, end)
 		toGo -= sent
 	}
 	return nil
@@ -61,9 +75,18 @@ func (l *load) unsent() int {
 	return all
 }
 
-func (l *load) wanting(r *reach) (int, bool) {
-	for _, node := range r.order {
-		if l.left[node] < 0 {
+// ready tells of each node whether goods are left at it.
+func (l *load) ready() []bool {
+	nodes := make([]bool, len(l.left))
+	for node, left := range l.left {
+		nodes[node] = left > 0
+	}
+	return nodes
+}
+
+func (l *load) wanting(w *ways) (int, bool) {
+	for node, left := range l.left {
+		if left < 0 && w.seen[node] {
 			return node, true
 		}
 	}
@@ -72,8 +95,8 @@ func (l *load) wanting(r *reach) (int, bool) {
 
 // send answers how much it has sent to the end, which is 1 at least: each step
 // of the way has room, the way begins where goods are left, and the end wants some.
-func (l *load) send(r *reach, end int) int {
-	start, way := l.wayTo(r, end)
+func (l *load) send(w *ways, end int) int {
+	start, way := l.wayTo(w, end)
 	amount := l.left[start]
 	if -l.left[end] < amount {
 		amount = -l.left[end]
@@ -87,13 +110,11 @@ func (l *load) send(r *reach, end int) int {
 	for _, s := range way {
 		l.take(s, amount)
 	}
-	l.left[start] -= amount
-	l.left[end] += amount
 	return amount
 }
 
 // room of an unlimited arc never comes near 0: no more is sent in all than all
-// supplies and Lows together, which is far below MaxAmount.
+// supplies, Lows and Caps together, which is far below MaxAmount.
 func (l *load) room(s step) int {
 	arc, amount := l.net.Arcs[s.arc], l.flow[s.arc]
 	if s.back {
@@ -105,7 +126,19 @@ func (l *load) room(s step) int {
 	return arc.Cap - amount
 }
 
+// price is of a unit: what is sent back need not be paid.
+func (l *load) price(s step) int {
+	cost := l.net.Arcs[s.arc].Cost
+	if s.back {
+		return -cost
+	}
+	return cost
+}
+
 func (l *load) take(s step, amount int) {
+	from, to := l.ends(s)
+	l.left[from] -= amount
+	l.left[to] += amount
 	if s.back {
 		l.flow[s.arc] -= amount
 		return

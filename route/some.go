@@ -1,4 +1,4 @@
-// Package route: goods sent through a net, way by way, until all have gone or no more can go: see DOC.md.
+// Package route: goods sent through a net, each time the cheapest way, until all have gone or no more can go: see DOC.md.
 package route
 
 import (
@@ -16,7 +16,7 @@ func Some(n api.Net) ([]int, []int, api.Errno) {
 	if sum(n.Supply) != 0 {
 		return nil, everyNode(len(n.Supply)), api.OK
 	}
-	l := atLows(n)
+	l := atLows(costless(n))
 	cut := l.settle()
 	if len(cut) != 0 {
 		return nil, cut, api.OK
@@ -38,4 +38,14 @@ func everyNode(nodes int) []int {
 		all = append(all, node)
 	}
 	return all
+}
+
+// costless has a net in which any way is as cheap as another.
+func costless(n api.Net) api.Net {
+	arcs := []api.Arc{}
+	for _, arc := range n.Arcs {
+		arc.Cost = 0
+		arcs = append(arcs, arc)
+	}
+	return api.Net{Supply: n.Supply, Arcs: arcs}
 }
