@@ -40,6 +40,12 @@ func callAll(t *testing.T, n api.Net, x, y int) {
 	if solveErrno != errno || (errno != api.OK && !reflect.DeepEqual(answer, api.Answer{})) {
 		t.Errorf("P1: Solve(%+v) = %+v, %d, and Check's error is %d", n, answer, solveErrno, errno)
 	}
+	for _, ends := range [][]int{{x, y}, {0, 1}, {1, 0}, {0, x}, {y, 1}} {
+		much, flow, cut, mostErrno := freight.Most(n, ends[0], ends[1])
+		if mostErrno == api.OK && errno != api.OK || mostErrno != api.OK && (much != 0 || len(flow) != 0 || len(cut) != 0) {
+			t.Errorf("P1: Most(%+v, %v) = %d, %v, %v, %d, and Check's error is %d", n, ends, much, flow, cut, mostErrno, errno)
+		}
+	}
 	for _, l := range [][]int{nil, list(x), list(x, y), list(x, y, x), list(0, x, y), make([]int, 50)} {
 		cost, costErrno := freight.Cost(n, l)
 		if costErrno != api.OK && cost != 0 {
@@ -55,6 +61,24 @@ func callAll(t *testing.T, n api.Net, x, y int) {
 				freight.Accept(n, api.Answer{Kind: kind, Flow: flow, Potentials: l})
 				freight.Accept(n, api.Answer{Kind: kind, Cut: l})
 				freight.Accept(n, api.Answer{Kind: kind, Flow: flow, Circle: l})
+			}
+		}
+	}
+}
+
+// TestP1NoTablePanics: of one to nine rows, and of any lengths.
+func TestP1NoTablePanics(t *testing.T) {
+	for _, x := range edges() {
+		for _, y := range edges() {
+			for _, table := range [][][]int{
+				{{x}}, {{x, y}}, {{x}, {y}}, {{x, y}, {y, x}}, {{x, x}, {y, y}}, {{x, y}, {x}}, {{x}, {x, y}},
+				{nil, {x, y}}, {{x, y}, nil}, {{x, y, x}, {y, x, y}, {x, x, y}}, {{0, x}, {y, 0}}, {{0, 0}, {x, y}, {}},
+				{{x, y, 0}, {x, -1, -1}, {y, -1, -1}}, make([][]int, 8), make([][]int, 9),
+			} {
+				plan, errno := freight.Assign(table)
+				if errno != api.OK && (errno != api.ErrTable || !reflect.DeepEqual(plan, api.Plan{})) {
+					t.Errorf("P1: Assign(%v) = %+v, %d", table, plan, errno)
+				}
 			}
 		}
 	}
@@ -79,6 +103,10 @@ func roomyArcs(l []api.Arc) []api.Arc {
 	return wide[:len(l)]
 }
 
+func roomyNet(n api.Net) api.Net {
+	return api.Net{Supply: roomy(n.Supply), Arcs: roomyArcs(n.Arcs)}
+}
+
 // whole is all that stands behind a net and an answer, with the spare room.
 type whole struct {
 	arcs  []api.Arc
@@ -91,6 +119,65 @@ func wholeOf(n api.Net, a api.Answer) whole {
 		w.lists[i] = append([]int{}, l[:cap(l)]...)
 	}
 	return w
+}
+
+// spoil writes into a list that has come out, and into its spare room.
+func spoil(l []int) {
+	whole := l[:cap(l)]
+	for i := range whole {
+		whole[i] = -12345
+	}
+}
+
+// spoilEach spoils the lists of one answer in turn; the others stay as they were, spare room and all.
+func spoilEach(t *testing.T, name string, lists ...[]int) {
+	t.Helper()
+	before := make([][]int, len(lists))
+	for i, l := range lists {
+		before[i] = append([]int{}, l[:cap(l)]...)
+	}
+	for i := range lists {
+		spoil(lists[i])
+		for k := i + 1; k < len(lists); k++ {
+			if now := append([]int{}, lists[k][:cap(lists[k])]...); !reflect.DeepEqual(before[k], now) {
+				t.Errorf("P2: %s: list %d has become %v with list %d, and was %v", name, k, now, i, before[k])
+			}
+		}
+	}
+}
+
+// callersOwn spoils an answer: neither one that has come out nor one that comes later is changed by that.
+func callersOwn[A any](t *testing.T, name string, ask func() A, copied func(A) A, lists func(A) [][]int) {
+	t.Helper()
+	spoiled, other := ask(), ask()
+	first := copied(spoiled)
+	spoilEach(t, name, lists(spoiled)...)
+	if again := copied(other); !reflect.DeepEqual(first, again) {
+		t.Errorf("P2: %s: %+v, and again %+v", name, first, again)
+	}
+	if later := copied(ask()); !reflect.DeepEqual(first, later) {
+		t.Errorf("P2: %s: %+v, and later %+v", name, first, later)
+	}
+}
+
+// steady asks for the answers in one order, and again in the other. What is asked in between changes nothing, neither what comes later nor what has come out.
+func steady[A any](t *testing.T, cases int, ask func(int) A, copied func(A) A) {
+	t.Helper()
+	out, first := make([]A, cases), make([]A, cases)
+	for i := range out {
+		out[i] = ask(i)
+		first[i] = copied(out[i])
+	}
+	for i := cases - 1; i >= 0; i-- {
+		if again := copied(ask(i)); !reflect.DeepEqual(first[i], again) {
+			t.Errorf("P2: case %d: %+v, and again %+v", i, first[i], again)
+		}
+	}
+	for i := range out {
+		if now := copied(out[i]); !reflect.DeepEqual(first[i], now) {
+			t.Errorf("P2: case %d: what came out has become %+v, and was %+v", i, now, first[i])
+		}
+	}
 }
 
 func ownedCases() []judged {
@@ -110,7 +197,7 @@ func ownedCases() []judged {
 
 func TestP2NothingHandedInIsWrittenInto(t *testing.T) {
 	for _, c := range ownedCases() {
-		n := api.Net{Supply: roomy(c.net.Supply), Arcs: roomyArcs(c.net.Arcs)}
+		n := roomyNet(c.net)
 		a := c.answer
 		a.Flow = roomy(a.Flow)
 		a.Potentials = roomy(a.Potentials)

@@ -313,54 +313,22 @@ func solvedOf(t *testing.T, n api.Net) api.Answer {
 	return answer
 }
 
-// Each list is spoiled in turn, and the others stay as they were.
+func answerLists(a api.Answer) [][]int { return [][]int{a.Flow, a.Potentials, a.Cut, a.Circle} }
+
 func TestP2WhatSolveAnswersIsTheCallers(t *testing.T) {
 	for _, c := range examples() {
-		n := api.Net{Supply: roomy(c.net.Supply), Arcs: roomyArcs(c.net.Arcs)}
+		n := roomyNet(c.net)
 		before := wholeOf(n, api.Answer{})
-		spoiled, other := solvedOf(t, n), solvedOf(t, n)
-		first := copied(spoiled)
-		rest := copied(spoiled)
-		lists := []*[]int{&spoiled.Flow, &spoiled.Potentials, &spoiled.Cut, &spoiled.Circle}
-		rests := []*[]int{&rest.Flow, &rest.Potentials, &rest.Cut, &rest.Circle}
-		for i := range lists {
-			spoil(*lists[i])
-			*lists[i], *rests[i] = nil, nil
-			if now := copied(spoiled); !reflect.DeepEqual(rest, now) {
-				t.Errorf("P2: %s: the other lists have become %+v, and were %+v", c.name, now, rest)
-			}
-		}
-		if again := copied(other); !reflect.DeepEqual(first, again) {
-			t.Errorf("P2: %s: %+v, and again %+v", c.name, first, again)
-		}
-		if later := copied(solvedOf(t, n)); !reflect.DeepEqual(first, later) {
-			t.Errorf("P2: %s: %+v, and later %+v", c.name, first, later)
-		}
+		callersOwn(t, c.name, func() api.Answer { return solvedOf(t, n) }, copied, answerLists)
 		if after := wholeOf(n, api.Answer{}); !reflect.DeepEqual(before, after) {
 			t.Errorf("P2: %s: what was handed in has become %+v, and was %+v", c.name, after, before)
 		}
 	}
 }
 
-// What is asked in between changes nothing, neither what comes later nor what has come out.
 func TestP2SolveDependsOnTheNetAlone(t *testing.T) {
 	cases := examples()
-	first := make([]api.Answer, len(cases))
-	kept := make([]api.Answer, len(cases))
-	for i, c := range cases {
-		first[i] = solvedOf(t, c.net)
-		kept[i] = copied(first[i])
-	}
-	for i := len(cases) - 1; i >= 0; i-- {
-		if again := copied(solvedOf(t, cases[i].net)); !reflect.DeepEqual(kept[i], again) {
-			t.Errorf("P2: %s: %+v, and again %+v", cases[i].name, kept[i], again)
-		}
-	}
-	for i, c := range cases {
-		if now := copied(first[i]); !reflect.DeepEqual(kept[i], now) {
-			t.Errorf("P2: %s: what came out has become %+v, and was %+v", c.name, now, kept[i])
-		}
-	}
+	steady(t, len(cases), func(i int) api.Answer { return solvedOf(t, cases[i].net) }, copied)
 }
 
 // What is written into a net after a call counts for the next call: nothing handed in is kept.

@@ -238,54 +238,23 @@ func TestP9DrawnNets(t *testing.T) {
 	}
 }
 
-type routed struct {
-	flow, cut []int
-	errno     api.Errno
-}
-
-func routedOf(n api.Net) routed {
+func someOf(n api.Net) carried {
 	flow, cut, errno := freight.Some(n)
-	return routed{append([]int{}, flow...), append([]int{}, cut...), errno}
-}
-
-// spoil writes into a list that has come out, and into its spare room.
-func spoil(l []int) {
-	whole := l[:cap(l)]
-	for i := range whole {
-		whole[i] = -12345
-	}
+	return carried{flow: flow, cut: cut, errno: errno}
 }
 
 func TestP2WhatSomeAnswersIsTheCallers(t *testing.T) {
 	for _, c := range fittables() {
-		n := api.Net{Supply: roomy(c.net.Supply), Arcs: roomyArcs(c.net.Arcs)}
-		before, first := wholeOf(n, api.Answer{}), routedOf(n)
-		flow, cut, _ := freight.Some(n)
-		other, otherCut, _ := freight.Some(n)
-		spoil(flow)
-		spoil(cut)
-		if again := (routed{append([]int{}, other...), append([]int{}, otherCut...), api.OK}); !reflect.DeepEqual(first, again) {
-			t.Errorf("P2: %s: %+v, and again %+v", c.name, first, again)
-		}
-		if again := routedOf(n); !reflect.DeepEqual(first, again) {
-			t.Errorf("P2: %s: %+v, and later %+v", c.name, first, again)
-		}
+		n := roomyNet(c.net)
+		before := wholeOf(n, api.Answer{})
+		callersOwn(t, c.name, func() carried { return someOf(n) }, kept, carriedLists)
 		if after := wholeOf(n, api.Answer{}); !reflect.DeepEqual(before, after) {
 			t.Errorf("P2: %s: what was handed in has become %+v, and was %+v", c.name, after, before)
 		}
 	}
 }
 
-// What is asked in between changes nothing.
 func TestP2SomeDependsOnTheNetAlone(t *testing.T) {
 	cases := fittables()
-	first := make([]routed, len(cases))
-	for i, c := range cases {
-		first[i] = routedOf(c.net)
-	}
-	for i := len(cases) - 1; i >= 0; i-- {
-		if again := routedOf(cases[i].net); !reflect.DeepEqual(first[i], again) {
-			t.Errorf("P2: %s: %+v, and again %+v", cases[i].name, first[i], again)
-		}
-	}
+	steady(t, len(cases), func(i int) carried { return someOf(cases[i].net) }, kept)
 }

@@ -15,7 +15,7 @@ func Solve(n api.Net) (api.Answer, api.Errno) {
 		return api.Answer{Kind: api.None, Cut: cut}, api.OK
 	}
 	l := atLows(stiff(n))
-	w := l.cheapest(fromEverywhere(n))
+	w := l.fromEverywhere()
 	circle := l.circle(w)
 	if len(circle) != 0 {
 		return api.Answer{Kind: api.Endless, Flow: flow, Circle: circle}, api.OK
@@ -36,23 +36,13 @@ func stiff(n api.Net) api.Net {
 	return api.Net{Supply: n.Supply, Arcs: arcs}
 }
 
-func fromEverywhere(n api.Net) []bool {
-	starts := make([]bool, len(n.Supply))
-	for node := range starts {
-		starts[node] = true
-	}
-	return starts
-}
-
 // best takes a net of which a flow fits, and potentials that give no unlimited
-// arc a drift below 0. What the cheapest way to each node costs are potentials
-// that hold the flow: a step with room would make a way cheaper if its drift
-// were below 0.
+// arc a drift below 0.
 func best(n api.Net, potentials []int) api.Answer {
 	l := atLows(n)
 	l.fill(potentials)
 	l.settle()
-	w := l.cheapest(fromEverywhere(n))
+	holding := l.potentials()
 	cost, _ := grounds.Cost(n, l.flow)
-	return api.Answer{Kind: api.Best, Cost: cost, Flow: l.flow, Potentials: w.cost}
+	return api.Answer{Kind: api.Best, Cost: cost, Flow: l.flow, Potentials: holding}
 }

@@ -30,6 +30,22 @@ func (l *load) cheapest(starts []bool) *ways {
 	return w
 }
 
+func (l *load) fromEverywhere() *ways {
+	starts := make([]bool, len(l.left))
+	for node := range starts {
+		starts[node] = true
+	}
+	return l.cheapest(starts)
+}
+
+// potentials takes a load in which no circle of steps costs less than 0. What
+// the cheapest way to each node costs are potentials that hold its flow: a step
+// with room would make a way cheaper if its drift were below 0.
+func (l *load) potentials() []int {
+	w := l.fromEverywhere()
+	return w.cost
+}
+
 func (l *load) goRound(w *ways) {
 	w.newer = nowhere
 	for number := range l.net.Arcs {
